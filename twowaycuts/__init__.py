@@ -1,0 +1,1 @@
+"""Two-way cuts: books of words that are read from both ends."""

@@ -1,0 +1,1 @@
+"""Integers, letters, texts and words."""

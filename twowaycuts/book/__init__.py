@@ -1,0 +1,1 @@
+"""Books of words, and what they do with texts."""
