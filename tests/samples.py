@@ -96,3 +96,25 @@ ALIKE = Book("ab", tuple("a" * 190 + middle + "b" * 190 for middle in numbered(4
 SPREAD = Book("ab", tuple(spread(400)))
 # And one with all lengths up to 400; but for "a" its words begin and end with "b".
 THIN = Book("ab", ("a",) + tuple("b" + "a" * many + "b" for many in range(399)))
+
+
+def row_brute(book, text):
+    """A row of words that is the text, by trying all words at each index, or None."""
+    rows = {0: ()}
+    for index in range(len(text)):
+        for word in book.words:
+            if index in rows and text[index:index + len(word)] == word:
+                rows[index + len(word)] = rows[index] + (word,)
+    return rows.get(len(text))
+
+
+def cuts_brute(book, text):
+    """All cuts (v, words, u) of the text, just as [0.9] tells them, by the lengths of v and u."""
+    found = []
+    for start in range(len(text) + 1):
+        for end in range(start, len(text) + 1):
+            ahead, behind = text[:start], text[end:]
+            row = row_brute(book, text[start:end])
+            if row is not None and not any(ahead.endswith(word) or behind.startswith(word) for word in book.words):
+                found.append((ahead, row, behind))
+    return found
