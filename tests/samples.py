@@ -4,10 +4,12 @@ from itertools import product
 
 from twowaycuts.book.books import Book
 from twowaycuts.errors import Clash, TooMany
+from twowaycuts.plan.plans import Plan
 
 PAIRS = Book("ab", ("aa", "ab", "ba", "bb"))
 NINE = Book("ab", ("ab", "aaa", "baa", "bba", "bbb", "aaba", "aabb", "baba", "babb"))
 FEW = Book("ab", ("ab", "ba"))
+PLAN = Plan("ab", ("ab",), 3)
 
 
 def nested(value, depth):
@@ -24,7 +26,7 @@ STRANGE = [
     "A", "AB", "ab ", " ", "a\nb", "\n", "ab\n", "a" * 3999 + "~", "0", "aB", "_", "(", "a,b", "-",
     (1,), (None,), ("a", 1), ((),), [], [1], ["a"], ["a", "b"], {}, {"a": 1}, {"a": ()}, {1: "a"},
     nested(1, 10), nested("a", 10), nested(None, 9), nested((), 8),
-    PAIRS, NINE, FEW, Book("a", ()), TooMany(400), Clash("a", "ab"),
+    PAIRS, NINE, FEW, Book("a", ()), PLAN, Plan("a", (), 1), TooMany(400), Clash("a", "ab"),
 ]
 
 
@@ -36,6 +38,7 @@ def of_other_kind(kind):
 NO_STRINGS = of_other_kind(str)
 NO_TUPLES = of_other_kind(tuple)
 NO_BOOKS = of_other_kind(Book) + ["", "ab", ("ab", "ba"), ("ab", ("ab", "ba"))]
+NO_PLANS = of_other_kind(Plan) + ["", "ab", ("ab",), (("ab",), 3), ("ab", ("ab",), 3), {"ab": 3}]
 NO_LETTERS = STRANGE + ["", "ba", "aa", "abb", "abcd", "cab", "acb", "a b", "a" * 4000, ("a", "b")]
 
 

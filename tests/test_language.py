@@ -214,6 +214,66 @@ class Language(unittest.TestCase):
                 for sign in node.decorator_list:
                     self.assertIn(ast.unparse(sign), {"property", "classmethod", "staticmethod"}, path)
 
+    def test_attributes(self):
+        # No property is assigned, no attribute is a method, and what is read is assigned somewhere.
+        nodes = [node for tree in self.trees.values() for node in ast.walk(tree)]
+        owners = [node for node in nodes if isinstance(node, ast.ClassDef)]
+        methods = [part for owner in owners for part in owner.body if isinstance(part, ast.FunctionDef)]
+        properties = {part.name for part in methods if [sign for sign in part.decorator_list
+                                                        if ast.unparse(sign) == "property"]}
+        stored = {node.attr for node in nodes if isinstance(node, ast.Attribute) and isinstance(node.ctx, ast.Store)}
+        plain = {part.name for part in methods} - properties
+        self.assertFalse(stored & (properties | plain))
+        self.assertFalse(properties & plain)
+        self.assertLessEqual((stored | properties) & METHODS, {"index"})
+        for node in nodes:
+            if isinstance(node, ast.Attribute) and isinstance(node.ctx, ast.Load):
+                self.assertIn(node.attr, stored | properties | plain | METHODS)
+
+    def test_generators(self):
+        nodes = [node for tree in self.trees.values() for node in functions(tree)]
+        names = [node.name for node in nodes]
+        for node in nodes:
+            if any(isinstance(part, (ast.Yield, ast.YieldFrom)) for part in ast.walk(node)):
+                self.assertEqual(names.count(node.name), 1, node.name)
+                self.assertNotIn(node.name, METHODS)
+                for tree in self.trees.values():
+                    self.check_generator(tree, node.name)
+
+    def check_generator(self, tree, name):
+        """A generator is called, and what it yields is taken at once."""
+        places = []
+        for node in ast.walk(tree):
+            if isinstance(node, (ast.For, ast.comprehension)):
+                places.append(node.iter)
+            elif isinstance(node, ast.YieldFrom):
+                places.append(node.value)
+            elif isinstance(node, ast.Call) and isinstance(node.func, ast.Name):
+                if node.func.id in {"list", "tuple", "sorted", "sum", "any", "all", "enumerate", "zip"}:
+                    places.extend(node.args[:1])
+        calls = [node for node in ast.walk(tree) if isinstance(node, ast.Call) and isinstance(node.func, ast.Name)
+                 and node.func.id == name]
+        for call in calls:
+            self.assertIn(call, places, name)
+        uses = [node for node in ast.walk(tree) if isinstance(node, ast.Name) and node.id == name]
+        self.assertEqual(len(uses), len(calls), name)
+
+    def test_loops(self):
+        # What a loop goes over is not changed in it.
+        for path, tree in self.trees.items():
+            for loop in ast.walk(tree):
+                if isinstance(loop, ast.For):
+                    self.check_loop(path, loop)
+
+    def check_loop(self, path, loop):
+        names = {node.id for node in ast.walk(loop.iter) if isinstance(node, ast.Name)}
+        names |= {node.attr for node in ast.walk(loop.iter) if isinstance(node, ast.Attribute)}
+        for row in loop.body:
+            for node in ast.walk(row):
+                if isinstance(node, ast.Call) and isinstance(node.func, ast.Attribute):
+                    if node.func.attr in {"append", "extend", "pop", "insert", "remove", "clear", "update", "reverse"}:
+                        self.assertNotIn(ast.unparse(node.func.value).split(".")[-1], names, (path, loop.lineno))
+
     def test_sets(self):
         for path, tree in self.trees.items():
             places = []

@@ -103,7 +103,7 @@ def can_stand(book, text):
     check_book(book)
     check_text(book.letters, text)
     # The empty text is a beginning of each word, but a book can be without words.
-    return text != "" and not any([_clash(word, text) for word in book.words])
+    return text != "" and not any([do_clash(word, text) for word in book.words])
 
 
 def check_book(book):
@@ -118,7 +118,7 @@ def first_clash(words):
         return None
     for at, one in enumerate(words):
         for other in words[at + 1:]:
-            if _clash(one, other):
+            if do_clash(one, other):
                 return (one, other)
     return None
 
@@ -129,7 +129,8 @@ def _some_begins(words):
     return any([behind.startswith(word) for word, behind in zip(rows, rows[1:])])
 
 
-def _clash(one, other):
+def do_clash(one, other):
+    """Whether one of two texts is a beginning or an end of the other one."""
     if len(one) > len(other):
         return one.startswith(other) or one.endswith(other)
     return other.startswith(one) or other.endswith(one)

@@ -31,8 +31,13 @@ def mean(book, chances):
 def numbers(book):
     """The numbers of words with 1, 2, .. letters, up to the longest ones."""
     check_book(book)
-    many = [0] * book.longest
-    for word in book.words:
+    return many_of_each(book.words)
+
+
+def many_of_each(words):
+    """The numbers of words with 1, 2, .. letters; the words are a set in order."""
+    many = [0] * (len(words[-1]) if words else 0)
+    for word in words:
         many[len(word) - 1] += 1
     return tuple(many)
 

@@ -1,4 +1,4 @@
-"""Where the words of a book stand in a text, and how they follow one another."""
+"""Where words stand in a text, how they follow one another, and which beginnings they end."""
 
 from twowaycuts.base.names import check_text
 from twowaycuts.book.books import check_book
@@ -31,3 +31,37 @@ def row_from(found, start):
         row.append(found[at])
         at = at + len(found[at])
     return row
+
+
+def unended(words, texts):
+    """For each of some texts the number of its beginnings that none of the words ends."""
+    # One long text is searched faster than many short ones; no word goes over a blank.
+    ended = _ends_in(words, " ".join(texts))
+    told = []
+    start = 0
+    for text in texts:
+        behind = start + len(text) + 1
+        told.append(behind - start - sum([1 for index in range(start, behind) if index in ended]))
+        start = behind
+    return told
+
+
+def _ends_in(words, text):
+    """The dict with the indices at which some word ends in the text."""
+    ended = {}
+    for word in _without_longer(words):
+        at = text.find(word)
+        while at >= 0:
+            ended[at + len(word)] = True
+            at = text.find(word, at + 1)
+    return ended
+
+
+def _without_longer(words):
+    """The words without those of which another one is an end; so at each index just one ends, at most."""
+    kept = []
+    # In Python's order what begins with a text stands right behind it.
+    for turned in sorted([word[::-1] for word in words]):
+        if not kept or not turned.startswith(kept[-1]):
+            kept.append(turned)
+    return [turned[::-1] for turned in kept]

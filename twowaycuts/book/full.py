@@ -3,6 +3,7 @@
 from twowaycuts.base.names import is_text
 from twowaycuts.book.books import can_stand, check_book
 from twowaycuts.book.chances import share
+from twowaycuts.errors import NotFull
 
 
 def is_full(book):
@@ -29,6 +30,13 @@ def first_free(book):
         right.deepen()
         free = _free_of_size(left, right)
     return min(free)
+
+
+def check_full(book):
+    """Raise NotFull with the first free text unless the book is full."""
+    text = first_free(book)
+    if text is not None:
+        raise NotFull(text)
 
 
 class Side:

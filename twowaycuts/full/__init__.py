@@ -1,0 +1,1 @@
+"""Full books: their degrees, inner texts, and what can be made of them."""

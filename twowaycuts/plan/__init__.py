@@ -1,0 +1,1 @@
+"""Plans of full books, and what becomes of them."""
