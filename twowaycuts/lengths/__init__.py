@@ -1,0 +1,1 @@
+"""The lengths that the words of a book can have."""
