@@ -4,6 +4,7 @@ import random
 import unittest
 from functools import lru_cache
 from itertools import combinations
+from unittest.mock import patch
 
 from tests.fullbooks import FULL, SMALL_FULL, is_full_plain, plain_count, plain_degree, plain_inner, set_in_order
 from tests.refused import Refusing
@@ -264,6 +265,42 @@ class Rings(unittest.TestCase):
             for again in ["a", "aa", "aaaaa", "a" * 8, "a" * 40]:
                 self.assertIs(is_ring(plan, (ahead, again)), plain_count(plan.words, ahead + again * 20) < 9)
 
+    def test_states_without_a_word(self):
+        # From "bab" the text "ab" leads back, too, but there no word ends at each letter.
+        plan = Plan("abc", ("ab", "bba", "babb", "ccccc"), 6)
+        ahead, again = find_ring(plan)
+        self.assertTrue(is_ring(plan, (ahead, again)))
+        self.assertLess(plain_count(plan.words, ahead + again * 30), 6)
+        for ahead in all_texts("ab", 3):
+            for again in all_texts("ab", 3)[1:]:
+                self.assertIs(is_ring(plan, (ahead, again)), plain_count(plan.words, ahead + again * 9) < 6)
+
+    def test_too_long_rings(self):
+        # If a ring is too long, another one is looked for.
+        plan = Plan("ab", ("aab", "aba", "baa", "bbb"), 5)
+        self.assertEqual(len(find_ring(plan)[1]), 3)
+        for limit, wanted in [(3, 3), (2, 1), (1, 1)]:
+            with patch("twowaycuts.plan.rounds.MAX_TEXT", limit):
+                ahead, again = find_ring(plan)
+                self.assertEqual(len(again), wanted)
+                self.assertTrue(is_ring(plan, (ahead, again)))
+
+    def test_no_short_ring(self):
+        # If all rings are too long, one of them is told; states on the way from one round to another are none.
+        with patch("twowaycuts.plan.rounds.MAX_TEXT", 0):
+            for plan in small_plans() + RINGS + [Plan("ab", ("aaa", "bbb", "aab", "abb"), 5)]:
+                ring = find_ring(plan)
+                if ring is not None:
+                    self.assertTrue(is_ring(plan, ring))
+
+    def test_long_words_beside_short_ones(self):
+        # M of the first rounds grows, but behind seven letters it does not any more.
+        for words in [("c", "a" * 7), ("cb", "b" * 3, "a" * 9), ("bc", "cb", "a" * 30)]:
+            plan = Plan("abc", words, 40)
+            for ahead in ["", "c", "ab"]:
+                for again in ["a", "aa", "aaaa", "cb", "b", "c", "bc", "ab"]:
+                    self.assertIs(is_ring(plan, (ahead, again)), plain_count(words, ahead + again * 60) < 40)
+
     def test_long_words(self):
         # All turns of a text: round and round it goes.
         text = spread(1)[0]
@@ -339,6 +376,7 @@ class Papers(unittest.TestCase):
                             ("ring", ""), ("ring", "", ""), ("ring", ("", "ab")), ("ring", "", "ab", ""), ("book",),
                             ("book", None), ("book", PLAN), ("book", NINE), (NINE, NINE.words), (PLAN,), (None, None),
                             (["book"], NINE.words), ("flaw", nested("a", 9)), ("book", nested("a", 9)), (), "book",
+                            ("flaw", ("ways", "ab"), ""), ("flaw", ("clash", "a", "ab"), None), ("", "", "ab"),
                             ("ring", None, "ab"), ("ring", "", None), (("book", NINE.words),), {"book": NINE.words}]
         for plan in [PLAN, PLAN.of_degree(2), RINGS[0], RINGS[1], Plan("ab", ("a", "ab"), 3), Plan("ab", (), 9)]:
             for value in values:

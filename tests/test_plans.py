@@ -216,7 +216,8 @@ class Flaws(unittest.TestCase):
         plan = Plan("ab", ("a", "b", "ab"), 1)
         self.assertIs(is_flaw(plan, ("clash", "b", "ab")), True)
         for value in [("ways", "a"), ("ways", "ab"), ("full",), ("clash", "ab", "b"), ("clash", "a", "b"),
-                      ("clash", "a", "a"), ("clash", "a", "aa"), ("clash", "a"), ("clash",), ("clash", "a", "ab", "")]:
+                      ("clash", "a", "a"), ("clash", "a", "aa"), ("clash", "a"), ("clash",), ("clash", "a", "ab", ""), ("ways", "a", "ab"),
+                      ("", "a", "ab"), ("full", "a", "ab"), ("clash", "", "a"), ("clash", "b", "bb")]:
             self.assertIs(is_flaw(plan, value), False, value)
 
     def test_no_words(self):

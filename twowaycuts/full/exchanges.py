@@ -1,6 +1,6 @@
 """Full books in which a text stands in the place of the words that begin or end with it."""
 
-from twowaycuts.base.names import MAX_WORD, check_text, ordered
+from twowaycuts.base.names import check_text, ordered
 from twowaycuts.book.books import MAX_WORDS, Book, check_book
 from twowaycuts.book.full import check_full
 from twowaycuts.errors import InvalidOperation, TooMany
@@ -19,9 +19,8 @@ def exchangeable(book):
     """The set of all texts that can be exchanged."""
     check_book(book)
     check_full(book)
-    ends = {word[at:]: True for word in book.words for at in range(1, len(word))}
-    both = {word[:at]: True for word in book.words for at in range(1, len(word)) if word[:at] in ends}
-    return ordered([text for text in both if _can_exchange(book, text)])
+    beginnings = ordered([word[:at] for word in book.words for at in range(1, len(word))])
+    return tuple([text for text in beginnings if _can_exchange(book, text)])
 
 
 def exchange(book, text):
@@ -78,9 +77,8 @@ def _exchanged(book, text):
         raise InvalidOperation("the text cannot be exchanged")
     ahead, behind = extensions(book, text)
     kept = [word for word in book.words if not word.startswith(text) and not word.endswith(text)]
-    # The words in the middle are different ones: no word ahead of the text ends alike, none behind it begins alike.
+    # All the new words are different ones, for no word of the book begins another one. None has more than MAX_WORD
+    # letters: over several letters a full book with so long a word has more words than that, too.
     if len(kept) + 1 + len(ahead) * len(behind) > MAX_WORDS:
         raise TooMany(MAX_WORDS)
-    if len(ahead[-1]) + len(text) + len(behind[-1]) > MAX_WORD:
-        raise TooMany(MAX_WORD)
     return Book(book.letters, tuple(kept + [text] + [one + text + other for one in ahead for other in behind]))

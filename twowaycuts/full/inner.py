@@ -52,9 +52,10 @@ def extensions(book, text):
     check_book(book)
     check_text(book.letters, text)
     longer = [word for word in book.words if len(word) > len(text)]
+    # The words are in order, and so is what is left of them, since all of them lose the same letters.
     ahead = [word[:len(word) - len(text)] for word in longer if word.endswith(text)]
     behind = [word[len(text):] for word in longer if word.startswith(text)]
-    return ordered(ahead), ordered(behind)
+    return tuple(ahead), tuple(behind)
 
 
 def _insides(book):

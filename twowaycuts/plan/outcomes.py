@@ -1,6 +1,6 @@
 """What becomes of a plan: a flaw, a ring, or a book."""
 
-from twowaycuts.base.names import is_text, ordered
+from twowaycuts.base.names import is_text
 from twowaycuts.book.books import MAX_WORDS, Book
 from twowaycuts.book.finds import unended
 from twowaycuts.errors import InvalidOperation, TooMany
@@ -20,7 +20,7 @@ def outcome(plan):
 def find_ring(plan):
     """A ring, as a pair of texts, or None."""
     check_plan(plan)
-    return _ring(plan) if first_flaw(plan) is None else None
+    return _ring(plan, Reader(plan.letters, plan.words)) if first_flaw(plan) is None else None
 
 
 def is_ring(plan, value):
@@ -48,13 +48,8 @@ def book_of(plan):
 
 def book_or_none(plan):
     """The book of the plan, or None if there is none; TooMany if it would be too great."""
-    check_plan(plan)
-    if outcome(plan) != "book":
-        return None
-    words = _words(plan)
-    if words is None:
-        raise TooMany(MAX_WORDS)
-    return Book(plan.letters, words)
+    told = paper(plan)
+    return Book(plan.letters, told[1]) if told[0] == "book" else None
 
 
 def paper(plan):
@@ -63,10 +58,11 @@ def paper(plan):
     flaw = first_flaw(plan)
     if flaw is not None:
         return ("flaw", flaw)
-    ring = _ring(plan)
+    reader = Reader(plan.letters, plan.words)
+    ring = _ring(plan, reader)
     if ring is not None:
         return ("ring", ring[0], ring[1])
-    words = _words(plan)
+    words = _words(plan, reader)
     if words is None:
         raise TooMany(MAX_WORDS)
     return ("book", words)
@@ -81,15 +77,15 @@ def is_paper(plan, value):
         return len(value) == 2 and is_flaw(plan, value[1])
     if value[0] == "ring":
         return is_ring(plan, value[1:])
-    if value[0] != "book" or len(value) > 2 or outcome(plan) != "book":
+    if value[0] != "book" or len(value) > 2 or first_flaw(plan) is not None:
         return False
-    words = _words(plan)
+    reader = Reader(plan.letters, plan.words)
+    words = _words(plan, reader) if not lasting(reader) else None
     return words is not None and value[1] == words
 
 
-def _ring(plan):
+def _ring(plan, reader):
     """A ring of a plan without a flaw, or None."""
-    reader = Reader(plan.letters, plan.words)
     steps = lasting(reader)
     if not steps:
         return None
@@ -98,9 +94,9 @@ def _ring(plan):
     return reader.heads[state], again
 
 
-def _words(plan):
+def _words(plan, reader):
     """The set of the words of the book of a plan that has one, or None if there are more than MAX_WORDS."""
-    reader = Reader(plan.letters, plan.words)
+    # The texts of all rows are in order, so that the words are found in order.
     more = len(plan.letters) - 1
     words = []
     inner = [("", (0, 1), None)]
@@ -112,13 +108,13 @@ def _words(plan):
         words = words + [row[0] for row in grown if _is_begun(plan, row)]
         inner = [row for row in grown if not _is_begun(plan, row)]
         heads += len(inner)
-    return ordered(words) if not inner else None
+    return tuple(words) if not inner else None
 
 
 def _grown(plan, reader, row, at):
     """A text with one letter more, its state and M, and those of what is behind its first letter."""
     text, place, rest = row
-    return text + plan.letters[at], reader.behind(place, at), (0, 1) if rest is None else reader.behind(rest, at)
+    return text + plan.letters[at], reader.behind(place, at), ((0, 1) if rest is None else reader.behind(rest, at))
 
 
 def _is_begun(plan, row):

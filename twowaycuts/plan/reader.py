@@ -34,7 +34,7 @@ class Reader:
         """The state and M of a text with one letter more, told by its index, by the state and M of the text."""
         state, many = place
         after = self.steps[state][at]
-        return after, many if self.ended[after] else many + 1
+        return after, (many if self.ended[after] else many + 1)
 
 
 def _heads_of(words):
