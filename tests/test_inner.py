@@ -8,6 +8,7 @@ from tests.fullbooks import (FULL, GREAT_FULL, SMALL_FULL, is_full_plain, plain_
 from tests.refused import Refusing, no_numbers
 from tests.samples import ALIKE, FEW, NINE, NO_BOOKS, PAIRS, SPREAD, THIN, all_books, all_texts, no_texts
 from twowaycuts.book.books import Book
+from twowaycuts.book.chances import chance, mean
 from twowaycuts.book.full import first_free
 from twowaycuts.errors import InvalidBook, InvalidNumber, InvalidText, NotFull
 from twowaycuts.full.inner import degree, extensions, inner_texts, inner_words, is_inner, outer_words
@@ -75,6 +76,12 @@ class Degree(unittest.TestCase):
             many = len(book.letters)
             mean = sum(Fraction(len(word), many ** len(word)) for word in book.words)
             self.assertEqual(degree(book), mean)
+
+    def test_all_chances(self):
+        for book in SMALL_FULL[::4] + GREAT_FULL[::4]:
+            for chances in [(1, 1, 1), (2, 5, 3), (1, 0, 0), (3, 1, 0), (10 ** 199, 1, 7)]:
+                told = chances[:len(book.letters)]
+                self.assertEqual((chance(book, told), mean(book, told)), ((1, 1), (degree(book), 1)))
 
     def test_product(self):
         for one, two in [(PAIRS, NINE), (NINE, NINE), (Book("ab", ("a", "b")), NINE), (PAIRS, PAIRS)]:
