@@ -92,7 +92,7 @@ def all_changed(book):
     waiting = [book]
     while waiting:
         one = waiting.pop()
-        for text in {word[:at] for word in one.words for at in range(1, len(word))}:
+        for text in set_in_order(word[:at] for word in one.words for at in range(1, len(word))):
             if plain_can_exchange(one, text):
                 words = set_in_order(plain_exchange(one, text))
                 if words not in found:
