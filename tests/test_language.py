@@ -73,6 +73,23 @@ def bound_names(tree):
     return found
 
 
+def other_names(function):
+    """The dict from each name of a function to the names that it is given, straight, in a choice or as an item."""
+    found = {}
+    for node in ast.walk(function):
+        if isinstance(node, ast.Assign):
+            pairs = [(target, node.value) for target in node.targets]
+            for target, value in list(pairs):
+                if isinstance(target, ast.Tuple) and isinstance(value, ast.Tuple):
+                    pairs.extend(zip(target.elts, value.elts))
+            for target, value in pairs:
+                if isinstance(target, ast.Name) and not isinstance(value, (ast.Call, ast.ListComp, ast.BinOp)):
+                    given = {part.id for part in ast.walk(value) if isinstance(part, ast.Name)}
+                    given |= {part.attr for part in ast.walk(value) if isinstance(part, ast.Attribute)}
+                    found.setdefault(target.id, set()).update(given)
+    return found
+
+
 class Language(unittest.TestCase):
     def setUp(self):
         self.trees = {}
@@ -259,15 +276,20 @@ class Language(unittest.TestCase):
         self.assertEqual(len(uses), len(calls), name)
 
     def test_loops(self):
-        # What a loop goes over is not changed in it.
+        # What a loop goes over is not changed in it, by no name that stands for it.
         for path, tree in self.trees.items():
-            for loop in ast.walk(tree):
-                if isinstance(loop, ast.For):
-                    self.check_loop(path, loop)
+            for node in functions(tree):
+                for loop in ast.walk(node):
+                    if isinstance(loop, ast.For):
+                        self.check_loop(path, loop, {})
+                        if not isinstance(loop.iter, ast.Call) or ast.unparse(loop.iter.func) != "list":
+                            self.check_loop(path, loop, other_names(node))
 
-    def check_loop(self, path, loop):
+    def check_loop(self, path, loop, others):
         names = {node.id for node in ast.walk(loop.iter) if isinstance(node, ast.Name)}
         names |= {node.attr for node in ast.walk(loop.iter) if isinstance(node, ast.Attribute)}
+        for name in list(names):
+            names |= others.get(name, set())
         for row in loop.body:
             for node in ast.walk(row):
                 if isinstance(node, ast.Call) and isinstance(node.func, ast.Attribute):

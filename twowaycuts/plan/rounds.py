@@ -49,7 +49,7 @@ def _way_round(letters, reader, steps, start):
     level = [start]
     while level and start not in came:
         further = []
-        for state in level:
+        for state in list(level):
             for letter, after in zip(letters, reader.steps[state]):
                 if after in steps and after not in came:
                     came[after] = (state, letter)
