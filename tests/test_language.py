@@ -37,7 +37,7 @@ NO_WORDS = re.compile(r"\b(type|typing|typing_extensions|enum|Enum|IntEnum|StrEn
                       r"ABCMeta|namedtuple|NamedTuple|TypedDict|TYPE_CHECKING|abstractmethod)\b")
 NO_STARTS = ("_wall", "_pe_", "_dcw_", "_enum_", "_cm_", "_twin_re_", "_lay_", "_law_", "_stub_", "_sre", "_WallAttr")
 REFUSED = (ast.GeneratorExp, ast.Global, ast.AsyncFunctionDef, ast.Await, ast.Set, ast.Div, ast.MatMult, ast.Starred,
-           ast.Try, ast.With, ast.Match, ast.NamedExpr, ast.Nonlocal, ast.Lambda, ast.Delete, ast.AnnAssign)
+           ast.With, ast.Match, ast.NamedExpr, ast.Nonlocal, ast.Lambda, ast.Delete, ast.AnnAssign)
 
 
 def module_name(path):
@@ -217,6 +217,23 @@ class Language(unittest.TestCase):
                     self.assertFalse(node.is_async)
                 if isinstance(node, ast.FunctionDef):
                     self.assertFalse(node.args.posonlyargs or node.args.vararg or node.args.kwarg, path)
+
+    def test_tries(self):
+        # Only own errors are caught, and a `finally` only puts names back into attributes.
+        own = {node.name for path, tree in self.trees.items() if path.name == "errors.py" for node in tree.body
+               if isinstance(node, ast.ClassDef)}
+        for path, tree in self.trees.items():
+            for node in ast.walk(tree):
+                if isinstance(node, ast.Try):
+                    names = [one.name for one in node.handlers if one.name]
+                    self.assertEqual(len(names), len(set(names)), path)
+                    for one in node.handlers:
+                        self.assertIn(ast.unparse(one.type), own)
+                    for row in node.finalbody:
+                        self.assertRegex(ast.unparse(row), r"^self\.\w+ = \w+$")
+                elif isinstance(node, ast.FunctionDef) and node.name == "__exit__":
+                    for row in node.body:
+                        self.assertRegex(ast.unparse(row), r"^(\w+|self|desk)(\.\w+)? = self\.\w+(\.\w+)?$")
 
     def test_classes(self):
         for path, tree in self.trees.items():

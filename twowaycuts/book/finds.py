@@ -8,9 +8,14 @@ def words_at(book, text):
     """The dict from each index of the text at which a word stands to this word."""
     check_book(book)
     check_text(book.letters, text)
+    return places_in(book.words, text)
+
+
+def places_in(words, text):
+    """The same for the words of a book and a text of whatever length."""
     found = {}
     # No word begins another one, so at each index there is one word at most.
-    for word in book.words:
+    for word in words:
         at = text.find(word)
         while at >= 0:
             found[at] = word
@@ -31,6 +36,12 @@ def row_from(found, start):
         row.append(found[at])
         at = at + len(found[at])
     return row
+
+
+def row_in(words, text):
+    """The words of a book of which a text, of whatever length, is a row, or None."""
+    row = row_from(places_in(words, text), 0)
+    return tuple(row) if "".join(row) == text else None
 
 
 def unended(words, texts):

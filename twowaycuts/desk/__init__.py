@@ -1,0 +1,1 @@
+"""A text that comes in from both ends."""

@@ -1,0 +1,1 @@
+"""Mirror rows, words in them, turnings and webs."""

@@ -1,0 +1,1 @@
+"""Texts with wrong or lost letters, texts of values, and the shell."""
