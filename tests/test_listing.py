@@ -2,6 +2,7 @@
 
 import unittest
 from itertools import combinations
+from unittest import mock
 
 from tests.fullbooks import FULL, SMALL_FULL, all_changed, all_full, plain_degree, plain_free, plain_inner
 from tests.refused import Refusing, no_numbers
@@ -12,7 +13,7 @@ from twowaycuts.errors import InvalidBook, InvalidLetters, InvalidNumber, Invali
 from twowaycuts.full.inner import inner_words
 from twowaycuts.full.listing import MAX_OUTER, arrows_of, count_full, full_books, thickened
 from twowaycuts.plan.ladders import thicker, thinner
-from twowaycuts.plan.outcomes import book_of, outcome
+from twowaycuts.plan.outcomes import book_of, book_or_ring, outcome
 from twowaycuts.plan.plans import Plan
 
 NO_DEGREES = no_numbers(1, 400)
@@ -90,6 +91,14 @@ class Thickened(unittest.TestCase, Refusing):
         for book in FULL:
             if len(outer_plain(book)) > 9:
                 self.check_error(all_thickened, (book,), TooMany, {"limit": 9})
+
+    def test_few_plans_are_tried(self):
+        # There are 512, and 256, sets of outer words. What has a ring has one with more words, too, and is not tried.
+        for book, most in ((Book.uniform("abc", 2), 60), (Book.uniform("ab", 3), 60), (NINE, 60)):
+            with mock.patch("twowaycuts.full.listing.book_or_ring", side_effect=book_or_ring) as tried:
+                found = all_thickened(book)
+            self.assertLessEqual(len(found), tried.call_count)
+            self.assertLessEqual(tried.call_count, most)
 
     def test_one_letter(self):
         for size in [1, 2, 398, 399]:

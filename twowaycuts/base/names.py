@@ -32,6 +32,10 @@ def is_text(letters, value):
 def is_word(letters, value):
     """Whether the value is a word of the letters."""
     check_letters(letters)
+    return _is_word_of(letters, value)
+
+
+def _is_word_of(letters, value):
     return _is_spelled(letters, value) and 1 <= len(value) <= MAX_WORD
 
 
@@ -61,8 +65,9 @@ def ordered_words(letters, words):
     check_letters(letters)
     if not isinstance(words, tuple):
         raise InvalidOperation("words are told as a tuple")
-    for word in words:
-        check_word(letters, word)
+    # The letters are right: they are not looked at once more for each word.
+    if not all([_is_word_of(letters, word) for word in words]):
+        raise InvalidWord("a word has 1 to 400 letters, of those that are wanted")
     return ordered(words)
 
 

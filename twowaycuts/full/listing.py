@@ -1,13 +1,12 @@
 """All full books of a degree, each found from its thinner book."""
 
 from twowaycuts.base.names import check_letters, check_number
-from twowaycuts.base.picks import picks
 from twowaycuts.book.books import Book, check_book
 from twowaycuts.book.full import check_full
 from twowaycuts.errors import InvalidOperation, TooMany
 from twowaycuts.full.inner import degree_of, inner_words, outer_words
-from twowaycuts.plan.ladders import plan_above
-from twowaycuts.plan.outcomes import book_or_none
+from twowaycuts.plan.ladders import degree_above
+from twowaycuts.plan.outcomes import book_or_ring
 from twowaycuts.plan.plans import MAX_DEGREE
 
 MAX_OUTER = 9
@@ -20,11 +19,31 @@ def thickened(book):
     outer = outer_words(book)
     if len(outer) > MAX_OUTER:
         raise TooMany(MAX_OUTER)
-    for many in range(len(outer) + 1):
-        for taken in sorted(picks(outer, many)):
-            found = book_or_none(plan_above(book, inner_words(book) + taken))
+    degree = degree_above(book)
+    taken = [()]
+    while taken:
+        fitting = []
+        for row in taken:
+            found = book_or_ring(book.letters, inner_words(book) + row, degree)
             if found is not None:
                 yield found
+                fitting.append(row)
+        taken = _greater(outer, fitting)
+
+
+def _greater(outer, rows):
+    """The tuples with one of the words more than the rows have, all parts of which are rows; but for that of all words."""
+    # A ring of a plan is one of each plan with more words, too, if that has no flaw; and all words make a flaw.
+    known = {row: True for row in rows}
+    found = []
+    for at, word in enumerate(outer):
+        for row in rows:
+            # What is put behind a row comes behind its last word.
+            if len(row) + 1 < len(outer) and (not row or row[-1] in outer[:at]):
+                longer = row + (word,)
+                if all([longer[:less] + longer[less + 1:] in known for less in range(len(row))]):
+                    found.append(longer)
+    return sorted(found)
 
 
 def full_books(letters, degree):

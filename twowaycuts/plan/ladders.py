@@ -30,7 +30,7 @@ def thicker(book):
     """The thicker book."""
     check_book(book)
     check_full(book)
-    return book_of(plan_above(book, inner_words(book)))
+    return book_of(Plan(book.letters, inner_words(book), degree_above(book)))
 
 
 def ladder(book):
@@ -50,13 +50,13 @@ def heights(book):
     return _heights(book)
 
 
-def plan_above(book, words):
-    """The plan with these words and the degree of the full book, and 1; TooMany if no book is so great."""
+def degree_above(book):
+    """The degree of the books whose thinner one is the full book; TooMany if no book is so great."""
     above = degree_of(book) + 1
     # Only over one letter a book has such a degree, and the one above it has a longer word.
     if above > MAX_DEGREE:
         raise TooMany(MAX_WORD)
-    return Plan(book.letters, words, above)
+    return above
 
 
 def _thinned(book):

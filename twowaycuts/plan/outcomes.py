@@ -40,16 +40,21 @@ def is_ring(plan, value):
 
 def book_of(plan):
     """The book of the plan."""
-    found = book_or_none(plan)
-    if found is None:
-        raise InvalidOperation("there is no book of this plan")
-    return found
-
-
-def book_or_none(plan):
-    """The book of the plan, or None if there is none; TooMany if it would be too great."""
     told = paper(plan)
-    return Book(plan.letters, told[1]) if told[0] == "book" else None
+    if told[0] != "book":
+        raise InvalidOperation("there is no book of this plan")
+    return Book(plan.letters, told[1])
+
+
+def book_or_ring(letters, words, degree):
+    """The book of a plan that surely has no flaw, or None if there is a ring; TooMany if the book would be too great."""
+    reader = Reader(letters, words)
+    if lasting(reader):
+        return None
+    told = _words(letters, degree, reader)
+    if told is None:
+        raise TooMany(MAX_WORDS)
+    return Book(letters, told)
 
 
 def paper(plan):
@@ -62,7 +67,7 @@ def paper(plan):
     ring = _ring(plan, reader)
     if ring is not None:
         return ("ring", ring[0], ring[1])
-    words = _words(plan, reader)
+    words = _words(plan.letters, plan.degree, reader)
     if words is None:
         raise TooMany(MAX_WORDS)
     return ("book", words)
@@ -80,7 +85,7 @@ def is_paper(plan, value):
     if value[0] != "book" or len(value) > 2 or first_flaw(plan) is not None:
         return False
     reader = Reader(plan.letters, plan.words)
-    words = _words(plan, reader) if not lasting(reader) else None
+    words = _words(plan.letters, plan.degree, reader) if not lasting(reader) else None
     return words is not None and value[1] == words
 
 
@@ -94,30 +99,27 @@ def _ring(plan, reader):
     return reader.heads[state], again
 
 
-def _words(plan, reader):
+def _words(letters, degree, reader):
     """The set of the words of the book of a plan that has one, or None if there are more than MAX_WORDS."""
     # The texts of all rows are in order, so that the words are found in order.
-    more = len(plan.letters) - 1
+    more = len(letters) - 1
     words = []
     inner = [("", (0, 1), None)]
     heads = 1
     # Each head, a text that begins words but has no word as a beginning, makes so many words more. Over two letters or
     # three a word of more than MAX_WORD letters makes too many heads, over one letter it is as long as the degree.
     while inner and 1 + more * heads <= MAX_WORDS:
-        grown = [_grown(plan, reader, row, at) for row in inner for at in range(len(plan.letters))]
-        words = words + [row[0] for row in grown if _is_begun(plan, row)]
-        inner = [row for row in grown if not _is_begun(plan, row)]
+        further = []
+        for text, place, rest in list(inner):
+            for at, letter in enumerate(letters):
+                # The state and M of the text with the letter, and of what is behind its first letter.
+                whole = reader.behind(place, at)
+                behind = (0, 1) if rest is None else reader.behind(rest, at)
+                # A word is a beginning of the text as soon as L is the same without the first letter.
+                if min(degree, whole[1]) == min(degree, behind[1]):
+                    words.append(text + letter)
+                else:
+                    further.append((text + letter, whole, behind))
+        inner = further
         heads += len(inner)
     return tuple(words) if not inner else None
-
-
-def _grown(plan, reader, row, at):
-    """A text with one letter more, its state and M, and those of what is behind its first letter."""
-    text, place, rest = row
-    return text + plan.letters[at], reader.behind(place, at), ((0, 1) if rest is None else reader.behind(rest, at))
-
-
-def _is_begun(plan, row):
-    """Whether a word of the book is a beginning of the text: then L is the same without its first letter."""
-    _, place, rest = row
-    return min(plan.degree, place[1]) == min(plan.degree, rest[1])
