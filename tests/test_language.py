@@ -73,6 +73,13 @@ def bound_names(tree):
     return found
 
 
+def last_name(node):
+    """The name, or the attribute, of which something is an item."""
+    while isinstance(node, ast.Subscript):
+        node = node.value
+    return ast.unparse(node).split(".")[-1]
+
+
 def other_names(function):
     """The dict from each name of a function to the names that it is given, straight, in a choice or as an item."""
     found = {}
@@ -311,7 +318,9 @@ class Language(unittest.TestCase):
             for node in ast.walk(row):
                 if isinstance(node, ast.Call) and isinstance(node.func, ast.Attribute):
                     if node.func.attr in {"append", "extend", "pop", "insert", "remove", "clear", "update", "reverse"}:
-                        self.assertNotIn(ast.unparse(node.func.value).split(".")[-1], names, (path, loop.lineno))
+                        self.assertNotIn(last_name(node.func.value), names, (path, loop.lineno))
+                elif isinstance(node, ast.Subscript) and isinstance(node.ctx, ast.Store):
+                    self.assertNotIn(last_name(node.value), names, (path, loop.lineno))
 
     def test_sets(self):
         for path, tree in self.trees.items():

@@ -32,7 +32,7 @@ def thickened(book):
 
 
 def _greater(outer, rows):
-    """The tuples with one of the words more than the rows have, all parts of which are rows; but for that of all words."""
+    """The tuples with one word more than the rows have, all parts of which are rows; but for that of all words."""
     # A ring of a plan is one of each plan with more words, too, if that has no flaw; and all words make a flaw.
     known = {row: True for row in rows}
     found = []

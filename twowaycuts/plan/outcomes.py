@@ -47,7 +47,7 @@ def book_of(plan):
 
 
 def book_or_ring(letters, words, degree):
-    """The book of a plan that surely has no flaw, or None if there is a ring; TooMany if the book would be too great."""
+    """The book of a plan that surely has no flaw, or None if there is a ring; TooMany if it would be too great."""
     reader = Reader(letters, words)
     if lasting(reader):
         return None

@@ -108,11 +108,10 @@ class Web:
     def _give_up(self, point, other, pairs):
         """Lay the steps of a point to another one, with what tells their places; a list of what is merged then."""
         self._given_up[point] = (other, pairs)
-        steps = self.steps[point]
+        moved_steps = list(self.steps[point].items())
         self.steps[point] = {}
         merged = []
-        for sign in steps:
-            after, told = steps[sign]
+        for sign, (after, told) in moved_steps:
             moved = joined_pairs(undone_pairs(pairs), told)
             if after != point:
                 self.steps[after].pop(sign.swapcase())
