@@ -19,8 +19,14 @@ def exchangeable(book):
     """The set of all texts that can be exchanged."""
     check_book(book)
     check_full(book)
-    beginnings = ordered([word[:at] for word in book.words for at in range(1, len(word))])
-    return tuple([text for text in beginnings if _can_exchange(book, text)])
+    begun = {}
+    ended = {}
+    for word in book.words:
+        for at in range(1, len(word)):
+            begun.setdefault(word[:at], []).append(word)
+            ended[word[at:]] = True
+    found = [text for text in begun if text in ended]
+    return ordered([text for text in found if not any([word.endswith(text) for word in begun[text]])])
 
 
 def exchange(book, text):

@@ -43,15 +43,18 @@ def put_behind(signs, text):
             signs.append(sign)
 
 
-def undone_pairs(pairs):
-    """The spelling that undoes a spelling."""
-    return tuple([(index, -sign) for index, sign in pairs[::-1]])
+def undone_way(way):
+    """The way back."""
+    return way[1], way[0]
 
 
-def joined_pairs(one, other):
-    """One spelling and another one behind it, without neighbours that undo one another."""
+def joined_ways(one, other):
+    """One way and another one behind it. A way is told as a spelling and the one that undoes it, for quick answers."""
+    there, back = one
+    further, home = other
     many = 0
-    most = min(len(one), len(other))
-    while many < most and one[len(one) - 1 - many] == (other[many][0], -other[many][1]):
+    most = min(len(back), len(further))
+    # The end of the first spelling undoes the beginning of the second one as far as both begin alike, undone.
+    while many < most and back[many] == further[many]:
         many += 1
-    return one[:len(one) - many] + other[many:]
+    return there[:len(there) - many] + further[many:], home[:len(home) - many] + back[many:]

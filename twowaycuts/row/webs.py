@@ -32,7 +32,8 @@ def turning_of(letters, words):
 
 def relation(letters, words):
     """A relation of the words, or None."""
-    return _web_of(letters, words).relation
+    check_words(letters, words)
+    return Web(letters, words, True).relation
 
 
 def is_relation(letters, words, value):
@@ -57,7 +58,7 @@ def is_hole(letters, words, value):
     found = _web_of(letters, words)
     if not is_signed_text(letters, value) or without_undone(value) != value:
         return False
-    return found.walk(value)[2] < len(value)
+    return found.walk(value)[1] < len(value)
 
 
 def spelling(letters, words, text):
@@ -65,8 +66,8 @@ def spelling(letters, words, text):
     check_words(letters, words)
     check_signed(letters, text)
     short = without_undone(text)
-    point, pairs, many = _web_of(letters, words).walk(short)
-    return pairs if point == 0 and many == len(short) else None
+    found = Web(letters, words, True)
+    return found.spelled(short) if found.walk(short) == (0, len(short)) else None
 
 
 def is_spelling(letters, words, text, value):
@@ -94,8 +95,9 @@ def check_words(letters, words):
 
 
 def _web_of(letters, words):
+    """The web, whose spellings are not wanted."""
     check_words(letters, words)
-    return Web(letters, words)
+    return Web(letters, words, False)
 
 
 def _moves(letters, found):
@@ -103,8 +105,7 @@ def _moves(letters, found):
     numbers = {point: number for number, (point, _) in enumerate(points)}
     moves = {}
     for letter in letters:
-        steps = [found.steps[point].get(letter) for point, _ in points]
-        moves[letter] = tuple([numbers[step[0]] if step is not None else None for step in steps])
+        moves[letter] = tuple([numbers.get(found.steps[point].get(letter)) for point, _ in points])
     return moves
 
 
