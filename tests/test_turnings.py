@@ -138,7 +138,7 @@ class Turnings(unittest.TestCase, Refusing):
         self.check_error(Turning, ("a", good), InvalidOperation)
 
     def test_bounds(self):
-        self.assertEqual(len(Turning("a", {"a": (0,)})), 1)
+        self.assertEqual((len(Turning("a", {"a": (0,)})), str(Turning("a", {"a": (0,)}))), (1, "turning of 1 points over a"))
         row = tuple((at + 1) % 60 for at in range(60))
         turning = Turning("abc", {"c": row, "b": row, "a": row})
         self.assertEqual((len(turning), str(turning), turning.reaches_all()), (60, "turning of 60 points over abc", True))

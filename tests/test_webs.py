@@ -360,6 +360,19 @@ class Spellings(unittest.TestCase, Refusing):
         self.assertIs(is_spelling("ab", powers, "a" * 5, spelling("ab", powers, "a" * 5)), True)
         self.assertIs(is_relation("ab", powers, relation("ab", powers)), True)
 
+    def test_spellings_do_not_become_long(self):
+        # Parts of a row have many relations; taken in a bad order these make spellings of many thousand pairs.
+        for letters in ("ab", "abc"):
+            for seed, row in enumerate(ROWS[letters][:3]):
+                chance = random.Random(seed)
+                start = row.start(4000)
+                words = tuple(start[at:at + chance.randrange(5, 61)] for at in chance.sample(range(3900), 20))
+                told = relation(letters, words)
+                self.assertTrue(told is None or is_relation(letters, words, told) and len(told) < 500)
+                for sign in letters:
+                    pairs = spelling(letters, words, sign)
+                    self.assertTrue(pairs is None or plain_told(words, pairs) == sign and len(pairs) < 500)
+
     def test_wrong_spellings(self):
         for value in NO_SPELLINGS:
             self.check_error(told_by, ("ab", FEW.words, value), InvalidOperation)

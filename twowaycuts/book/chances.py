@@ -10,8 +10,13 @@ from twowaycuts.errors import InvalidOperation
 def share(book):
     """The sum of the shares of the words, a fraction."""
     check_book(book)
-    alike = [1 for _ in book.letters]
-    return weighted_sum(book.letters, alike, [(word, 1) for word in book.words])
+    # As numbers of words, each of which counts for its length alone, they are summed fast.
+    summed, whole = 0, 1
+    for many in many_of_each(book.words):
+        summed = summed * len(book.letters) + many
+        whole = whole * len(book.letters)
+    common = gcd(summed, whole)
+    return summed // common, whole // common
 
 
 def chance(book, chances):

@@ -16,6 +16,7 @@ def thickened(book):
     """A generator of all full books whose thinner one is the book."""
     check_book(book)
     check_full(book)
+    inner = inner_words(book)
     outer = outer_words(book)
     if len(outer) > MAX_OUTER:
         raise TooMany(MAX_OUTER)
@@ -24,7 +25,7 @@ def thickened(book):
     while taken:
         fitting = []
         for row in taken:
-            found = book_or_ring(book.letters, inner_words(book) + row, degree)
+            found = book_or_ring(book.letters, inner + row, degree)
             if found is not None:
                 yield found
                 fitting.append(row)
@@ -32,14 +33,15 @@ def thickened(book):
 
 
 def _greater(outer, rows):
-    """The tuples with one word more than the rows have, all parts of which are rows; but for that of all words."""
-    # A ring of a plan is one of each plan with more words, too, if that has no flaw; and all words make a flaw.
+    """The tuples with one word more than the rows have that have no part of this size but such rows, in order."""
+    # A ring of a plan is one of each plan with more words, too, if that has no flaw. All outer words together make a
+    # flaw, but they would have a ring as well: so they are found nowhere.
     known = {row: True for row in rows}
     found = []
     for at, word in enumerate(outer):
         for row in rows:
             # What is put behind a row comes behind its last word.
-            if len(row) + 1 < len(outer) and (not row or row[-1] in outer[:at]):
+            if not row or row[-1] in outer[:at]:
                 longer = row + (word,)
                 if all([longer[:less] + longer[less + 1:] in known for less in range(len(row))]):
                     found.append(longer)
