@@ -103,13 +103,18 @@ def first_returns(turning, row):
 
 def _returning(moves, row):
     """The list of the first returns, by the moves of a turning."""
-    texts = " ".join(stretches(row.letters, row.head, row.again, MAX_WORD))
     found = []
     # Texts that stand in the row and have not come back to 0, each with the point to which it leads 0.
     away = [("", 0)]
     size = 0
+    reach = 0
+    texts = ""
     while away and size < MAX_WORD:
         size += 1
+        # Short texts are looked for faster in what holds short texts alone.
+        if size > reach:
+            reach = 2 * size
+            texts = " ".join(stretches(row.letters, row.head, row.again, reach))
         longer = [(text + letter, moves[letter][point]) for text, point in away for letter in row.letters]
         longer = [(text, point) for text, point in longer if text in texts]
         found.extend([text for text, point in longer if point == 0])
