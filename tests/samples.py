@@ -3,8 +3,12 @@
 from itertools import product
 
 from twowaycuts.book.books import Book
+from twowaycuts.desk.desk import Desk
 from twowaycuts.errors import Clash, TooMany
 from twowaycuts.plan.plans import Plan
+from twowaycuts.row.mirrors import MirrorRow
+from twowaycuts.row.turnings import Turning
+from twowaycuts.text.shell import Shell
 
 PAIRS = Book("ab", ("aa", "ab", "ba", "bb"))
 NINE = Book("ab", ("ab", "aaa", "baa", "bba", "bbb", "aaba", "aabb", "baba", "babb"))
@@ -27,6 +31,7 @@ STRANGE = [
     (1,), (None,), ("a", 1), ((),), [], [1], ["a"], ["a", "b"], {}, {"a": 1}, {"a": ()}, {1: "a"},
     nested(1, 10), nested("a", 10), nested(None, 9), nested((), 8),
     PAIRS, NINE, FEW, Book("a", ()), PLAN, Plan("a", (), 1), TooMany(400), Clash("a", "ab"),
+    Desk(NINE), Shell("letters ab"), MirrorRow("ab", "b", "ab"), Turning("a", {"a": (0,)}),
 ]
 
 
@@ -39,6 +44,8 @@ NO_STRINGS = of_other_kind(str)
 NO_TUPLES = of_other_kind(tuple)
 NO_BOOKS = of_other_kind(Book) + ["", "ab", ("ab", "ba"), ("ab", ("ab", "ba"))]
 NO_PLANS = of_other_kind(Plan) + ["", "ab", ("ab",), (("ab",), 3), ("ab", ("ab",), 3), {"ab": 3}]
+NO_ROWS = of_other_kind(MirrorRow) + ["", "ab", ("ab", "", "ab"), {"ab": "ab"}, {"a": (0,), "b": (0,)}]
+NO_TURNINGS = of_other_kind(Turning) + ["ab", {"a": (0,), "b": (0,)}, ("ab", {"a": (0,), "b": (0,)})]
 NO_LETTERS = STRANGE + ["", "ba", "aa", "abb", "abcd", "cab", "acb", "a b", "a" * 4000, ("a", "b")]
 
 

@@ -5,13 +5,12 @@ import unittest
 from tests.fullbooks import FULL, SMALL_FULL, plain_degree
 from tests.mirrored import GOLD, ROWS, long_start
 from tests.refused import Refusing, error_of
-from tests.samples import ALIKE, FEW, NINE, NO_BOOKS, PAIRS, SPREAD, STRANGE, THIN, all_books
+from tests.samples import ALIKE, FEW, NINE, NO_BOOKS, NO_ROWS, PAIRS, SPREAD, THIN, all_books
 from twowaycuts.book.books import Book
 from twowaycuts.errors import InvalidBook, InvalidOperation, NotFull
 from twowaycuts.row.meets import free_forks, words_standing
 from twowaycuts.row.mirrors import MirrorRow, fork
 
-NO_ROWS = STRANGE + ["", "ab", ("ab", "", "ab")]
 SMALL = list(all_books("ab", 3, 3)) + list(all_books("abc", 2, 2)) + list(all_books("a", 4, 1))
 
 

@@ -5,11 +5,10 @@ import unittest
 
 from tests.mirrored import GOLD, ROWS, SOME_ROWS, long_start, plain_close, plain_guide, plain_standing
 from tests.refused import Refusing, error_of, no_numbers
-from tests.samples import NO_LETTERS, STRANGE, all_texts, no_texts
+from tests.samples import NO_LETTERS, NO_ROWS, STRANGE, all_texts, no_texts
 from twowaycuts.errors import InvalidLetters, InvalidNumber, InvalidOperation, InvalidText
 from twowaycuts.row.mirrors import (MAX_GUIDE, MAX_STANDING, MirrorRow, fork, mirror_close, returns_to, standing)
 
-NO_ROWS = STRANGE + ["", "ab", ("ab", "", "ab"), {"ab": "ab"}]
 # Guides with long heads, rows that grow slowly, letters that come late.
 LONG_ROWS = [MirrorRow("ab", "a" * 20, "a" * 19 + "b"), MirrorRow("ab", "ab" * 5, "ba" * 10),
              MirrorRow("abc", "a" * 10, "a" * 9 + "bc"), MirrorRow("abc", "aaabbbb", "aaac" + "b"),

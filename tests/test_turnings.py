@@ -6,7 +6,7 @@ from itertools import permutations, product
 
 from tests.mirrored import GOLD, ROWS
 from tests.refused import Refusing, error_of, no_numbers
-from tests.samples import NO_LETTERS, STRANGE, all_texts, comparable
+from tests.samples import NO_LETTERS, NO_ROWS, NO_TURNINGS, STRANGE, all_texts, comparable
 from twowaycuts.book.books import Book
 from twowaycuts.errors import InvalidLetters, InvalidNumber, InvalidOperation, InvalidText, TooMany
 from twowaycuts.row.mirrors import MirrorRow
@@ -17,8 +17,6 @@ ONE = Turning("ab", {"a": (0,), "b": (0,)})
 APART = Turning("ab", {"a": (0, 1), "b": (0, 1)})
 NO_SIGNED = [value for value in STRANGE if value not in ("A", "AB", "aB")] + ["c", "abC", "a b", "a" * 4001, "aA" * 2001,
                                                                              ("a",), ["a"]]
-NO_ROWS = STRANGE + ["", "ab", ("ab", "", "ab")]
-NO_TURNINGS = STRANGE + [{"a": (0,), "b": (0,)}, "ab", GOLD, ("ab", {"a": (0,), "b": (0,)})]
 
 
 def all_turnings(letters, many):
@@ -170,7 +168,7 @@ class Turnings(unittest.TestCase, Refusing):
             for to, other in enumerate(turnings):
                 self.assertIs(one == other, at == to)
                 self.assertIs(one != other, at != to)
-            for value in STRANGE + [one.moves]:
+            for value in NO_TURNINGS + [one.moves]:
                 self.assertFalse(one == value)
                 self.assertTrue(one != value)
         self.assertTrue(THREE == Turning("ab", {"b": (1, 0, 2), "a": (1, 2, 0)}))
